@@ -1,0 +1,95 @@
+"""The files of the package: what the document lists stands where it says, by rules that can be counted."""
+
+import ast
+import importlib
+import pathlib
+import unittest
+import warnings
+
+PACKAGE = pathlib.Path(__file__).resolve().parent.parent / "lothouse"
+
+# For each file its functions with their arguments, and its classes with their methods and these' arguments.
+FUNCTIONS = {
+    "plans": {"is_name": ["thing"]},
+    "cells": {
+        "is_region": ["plan", "thing"], "is_piece": ["plan", "thing"], "pieces": ["cells"],
+        "both": ["one", "other"], "less": ["one", "other"],
+    },
+    "sights": {"is_sight": ["plan", "thing"]},
+}
+CLASSES = {
+    "plans": {
+        "Plan": {
+            "__init__": ["self", "uprights", "levels"], "uprights": ["self"], "levels": ["self"],
+            "lines": ["self", "family"], "family": ["self", "line"], "cells": ["self"],
+            "__len__": ["self"], "__eq__": ["self", "other"],
+        },
+    },
+}
+
+
+def sources():
+    return sorted(PACKAGE.rglob("*.py"))
+
+
+def tree(name):
+    return ast.parse((PACKAGE / (name + ".py")).read_text(encoding="utf-8"))
+
+
+def arguments(body):
+    """The names of the defs in a body, each with those of its arguments."""
+    defs = [part for part in body if isinstance(part, ast.FunctionDef)]
+    return {part.name: [arg.arg for arg in part.args.args] for part in defs}
+
+
+class Interface(unittest.TestCase):
+    def test_functions_stand_in_their_files(self):
+        for name, functions in FUNCTIONS.items():
+            found = arguments(tree(name).body)
+            for function, names in functions.items():
+                self.assertEqual(found.get(function), names)
+
+    def test_methods_stand_in_their_classes(self):
+        for name, classes in CLASSES.items():
+            bodies = {part.name: part.body for part in tree(name).body if isinstance(part, ast.ClassDef)}
+            for made, methods in classes.items():
+                found = arguments(bodies[made])
+                for method, names in methods.items():
+                    self.assertEqual(found.get(method), names)
+
+    def test_files_are_imported_by_their_names(self):
+        for name in ["errors", *FUNCTIONS]:
+            self.assertEqual(importlib.import_module("lothouse." + name).__name__, "lothouse." + name)
+
+
+class Sizes(unittest.TestCase):
+    def test_only_python_files(self):
+        others = [path for path in PACKAGE.rglob("*") if path.suffix != ".py" and "__pycache__" not in path.parts]
+        self.assertEqual(others, [])
+
+    def test_the_init_is_empty(self):
+        self.assertEqual((PACKAGE / "__init__.py").read_text(), "")
+
+    def test_signs_and_lines(self):
+        for path in sources():
+            lines = path.read_text(encoding="utf-8").split("\n")
+            self.assertLess(len(lines) - 1, 400, path)
+            for line in lines:
+                self.assertLessEqual(len(line), 120, path)
+                self.assertTrue(all(" " <= sign <= "~" for sign in line), (path, line))
+
+    def test_functions_are_short(self):
+        for path in sources():
+            for part in ast.walk(ast.parse(path.read_text(encoding="utf-8"))):
+                if isinstance(part, ast.FunctionDef):
+                    self.assertLessEqual(part.end_lineno - part.lineno + 1, 40, (path, part.name))
+
+    def test_python_gives_no_warning(self):
+        with warnings.catch_warnings():
+            warnings.simplefilter("error")
+            for path in sources():
+                compile(path.read_text(encoding="utf-8"), str(path), "exec")
+
+
+if __name__ == "__main__":
+    unittest.main()
