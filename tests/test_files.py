@@ -8,7 +8,8 @@ import warnings
 
 PACKAGE = pathlib.Path(__file__).resolve().parent.parent / "lothouse"
 
-# For each file its functions with their arguments, and its classes with their methods and these' arguments.
+# For each file its functions with their arguments, and its classes with their methods and these' arguments; those
+# that go by name alone have a star.
 FUNCTIONS = {
     "plans": {"is_name": ["thing"]},
     "cells": {
@@ -16,6 +17,19 @@ FUNCTIONS = {
         "both": ["one", "other"], "less": ["one", "other"],
     },
     "sights": {"is_sight": ["plan", "thing"]},
+    "points": {
+        "is_point": ["plan", "thing"], "lies": ["plan", "ground", "point"], "may_lie": ["net", "point"],
+        "ground_at": ["net", "point", "column", "row"], "bounds": ["net", "point"],
+        "is_bounds": ["net", "point", "thing"],
+    },
+    "borders": {
+        "sides": ["cells"], "rings": ["cells"], "ring_sides": ["ring"], "inside": ["rings"],
+        "between": ["one", "other"],
+    },
+    "shares": {
+        "is_fraction": ["thing"], "is_holding": ["thing"], "sole": ["name"], "held": ["holding", "name"],
+        "passed": ["holding", "giver", "taker", "part"],
+    },
 }
 CLASSES = {
     "plans": {
@@ -23,6 +37,14 @@ CLASSES = {
             "__init__": ["self", "uprights", "levels"], "uprights": ["self"], "levels": ["self"],
             "lines": ["self", "family"], "family": ["self", "line"], "cells": ["self"],
             "__len__": ["self"], "__eq__": ["self", "other"],
+        },
+    },
+    "nets": {
+        "Net": {
+            "__init__": ["self", "plan", "sights"], "plan": ["self"], "sights": ["self"], "ring": ["self"],
+            "most": ["self", "one", "other"], "least": ["self", "one", "other"], "way": ["self", "one", "other"],
+            "ground": ["self", "*more"], "is_way": ["self", "one", "other", "thing"], "is_ring": ["self", "thing"],
+            "is_ground": ["self", "thing"], "worth": ["self", "way"],
         },
     },
 }
@@ -38,8 +60,11 @@ def tree(name):
 
 def arguments(body):
     """The names of the defs in a body, each with those of its arguments."""
-    defs = [part for part in body if isinstance(part, ast.FunctionDef)]
-    return {part.name: [arg.arg for arg in part.args.args] for part in defs}
+    found = {}
+    for part in body:
+        if isinstance(part, ast.FunctionDef):
+            found[part.name] = [arg.arg for arg in part.args.args] + ["*" + arg.arg for arg in part.args.kwonlyargs]
+    return found
 
 
 class Interface(unittest.TestCase):
@@ -58,7 +83,7 @@ class Interface(unittest.TestCase):
                     self.assertEqual(found.get(method), names)
 
     def test_files_are_imported_by_their_names(self):
-        for name in ["errors", *FUNCTIONS]:
+        for name in ["errors", *FUNCTIONS, *CLASSES]:
             self.assertEqual(importlib.import_module("lothouse." + name).__name__, "lothouse." + name)
 
 
