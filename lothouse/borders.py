@@ -58,15 +58,14 @@ def _sides_round(start, rest):
 
 
 def _turns(ring):
-    """The corners at which a ring, told by its sides, turns: from the least on."""
+    """The corners at which a ring, told by its sides, turns: in the order of these."""
     corners = []
     ahead = ring[-1]
     for side in ring:
         if _course(ahead[0], ahead[1]) != _course(side[0], side[1]):
             corners.append(side[0])
         ahead = side
-    first = corners.index(min(corners))
-    return (*corners[first:], *corners[:first])
+    return tuple(corners)
 
 
 def rings(cells):
@@ -74,10 +73,12 @@ def rings(cells):
     found = []
     rest = sides(cells)
     while len(rest) > 0:
+        # The least side that is left goes on from the least corner that is left, and there its ring turns: so each
+        # ring is told from its least corner on, and the rings rise as they are found.
         ring = _sides_round(rest[0], rest)
         found.append(_turns(ring))
         rest = [side for side in rest if side not in ring]
-    return sorted(found)
+    return found
 
 
 def _sides_along(start, end):

@@ -1,20 +1,30 @@
 """Regions of a plan, and the pieces in which they lie."""
 
-from lothouse.kinds import is_rising, is_whole
+from lothouse.kinds import is_rising, is_within
 from lothouse.plans import Plan
 
+# The greatest column and row of the greatest plans.
+_GREATEST = 6
 
-def _is_cell(known, thing):
-    """Whether thing is one of the known cells: a pair with a truth in it equals one, but is none."""
-    return thing in known and all([is_whole(part) for part in thing])
+
+def is_cell(thing):
+    """Whether thing, which may be anything, is a cell of some plan."""
+    return isinstance(thing, tuple) and len(thing) == 2 and all([is_within(part, 0, _GREATEST) for part in thing])
+
+
+def is_area(thing):
+    """Whether thing, which may be anything, is a region of some plan: a rising tuple of one or more cells."""
+    if not isinstance(thing, tuple) or len(thing) == 0:
+        return False
+    return all([is_cell(cell) for cell in thing]) and is_rising(thing)
 
 
 def is_region(plan, thing):
-    """Whether thing, which may be anything, is a rising tuple of one or more cells of the plan."""
-    if not isinstance(plan, Plan) or not isinstance(thing, tuple):
+    """Whether thing, which may be anything, is a region of the plan."""
+    if not isinstance(plan, Plan) or not is_area(thing):
         return False
     known = plan.cells()
-    return len(thing) > 0 and all([_is_cell(known, cell) for cell in thing]) and is_rising(thing)
+    return all([cell in known for cell in thing])
 
 
 def is_piece(plan, thing):

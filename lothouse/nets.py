@@ -4,7 +4,7 @@ A step leads from a line, its start, to another, its end: in each ground, end's 
 """
 
 from lothouse.errors import NoGround, NoLine, NoPlan, NoSight
-from lothouse.kinds import is_whole
+from lothouse.kinds import is_whole, is_within
 from lothouse.plans import Plan
 from lothouse.sights import is_sight
 
@@ -16,7 +16,7 @@ def _is_numbered(sights):
     """Whether sights, which may be anything, is a dict of few enough numbers, whatever these lead to."""
     if not isinstance(sights, dict) or len(sights) > _MOST_SIGHTS:
         return False
-    return all([is_whole(number) and 1 <= number <= _LAST_NUMBER for number in sights])
+    return all([is_within(number, 1, _LAST_NUMBER) for number in sights])
 
 
 def _numbered(plan, sights):

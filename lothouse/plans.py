@@ -1,13 +1,12 @@
 """Names, and the plan: the lines that part the land into cells."""
 
 from lothouse.errors import NoLine, NoPlan
-
-_LETTERS = "abcdefghijklmnopqrstuvwxyz"
+from lothouse.kinds import is_letters
 
 
 def is_name(thing):
     """Whether thing, which may be anything, is a text of 1 to 8 small letters."""
-    return isinstance(thing, str) and 1 <= len(thing) <= 8 and all([sign in _LETTERS for sign in thing])
+    return is_letters(thing, 8)
 
 
 def _is_family(thing):

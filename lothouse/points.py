@@ -1,7 +1,7 @@
 """Points, each so far east of an upright and north of a level: where they lie in one ground and in all grounds."""
 
-from lothouse.errors import NoGround, NoPoint
-from lothouse.kinds import is_number, is_whole
+from lothouse.errors import NoPoint
+from lothouse.kinds import is_number, is_within
 from lothouse.plans import Plan
 
 
@@ -36,14 +36,8 @@ def _check_point(net, point):
         raise NoPoint("the net's plan has no such point")
 
 
-def _check_ground(net):
-    """Refuses a net of which there is no ground."""
-    if net.ring() is not None:
-        raise NoGround(net.ring())
-
-
 def _span(net, lines, place):
-    """The first and the last of the columns or rows in which a place lies in some ground."""
+    """The first and the last of the columns or rows in which a place lies in some ground; NoGround by the net."""
     line, off = place
     # As lines rise, those that the place is behind in all grounds are the first ones, and so are those in some.
     behind_in_all = [other for other in lines if _is_up_to(net.most(line, other), off)]
@@ -64,7 +58,6 @@ def _is_from(least, limit):
 def may_lie(net, point):
     """The first and last column, and the first and last row, in which a point lies in some ground."""
     _check_point(net, point)
-    _check_ground(net)
     return _span(net, net.plan().uprights(), point[0]), _span(net, net.plan().levels(), point[1])
 
 
@@ -81,7 +74,7 @@ def _reaches_in(lines, place, band):
 
 def _is_band(lines, thing):
     """Whether thing, which may be anything, is the number of a column or row, those beyond the lines too."""
-    return is_whole(thing) and -1 <= thing < len(lines)
+    return is_within(thing, -1, len(lines) - 1)
 
 
 def ground_at(net, point, column, row):

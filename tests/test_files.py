@@ -30,6 +30,12 @@ FUNCTIONS = {
         "is_fraction": ["thing"], "is_holding": ["thing"], "sole": ["name"], "held": ["holding", "name"],
         "passed": ["holding", "giver", "taker", "part"],
     },
+    "deeds": {"is_deed": ["thing"], "deed_text": ["deed"], "read_deed": ["text"]},
+    "slips": {
+        "is_slip": ["thing"], "is_key": ["thing"], "body_text": ["slip"], "slip_text": ["slip"], "read_slip": ["text"],
+        "sealed": ["slip", "name", "key", "digest"], "is_sealed": ["slip", "name", "key", "digest"],
+        "are_two": ["one", "other"],
+    },
 }
 CLASSES = {
     "plans": {
@@ -45,6 +51,21 @@ CLASSES = {
             "most": ["self", "one", "other"], "least": ["self", "one", "other"], "way": ["self", "one", "other"],
             "ground": ["self", "*more"], "is_way": ["self", "one", "other", "thing"], "is_ring": ["self", "thing"],
             "is_ground": ["self", "thing"], "worth": ["self", "way"],
+        },
+    },
+    "land": {
+        "Land": {
+            "__init__": ["self", "plan", "giver"], "plan": ["self"], "giver": ["self"], "lots": ["self"],
+            "lot": ["self", "name"], "lot_at": ["self", "cell"], "ways": ["self"], "twin": ["self"],
+            "__eq__": ["self", "other"], "needed": ["self", "deed"], "do": ["self", "deed"],
+        },
+    },
+    "books": {
+        "Book": {
+            "__init__": ["self", "plan", "giver", "keys", "digest"], "hear": ["self", "slip"], "slips": ["self"],
+            "plan": ["self"], "giver": ["self"], "known_keys": ["self"], "words": ["self", "day"],
+            "land": ["self", "day"], "mark": ["self", "day"], "marks": ["self"], "ripple": ["self", "slip", "day"],
+            "twin": ["self"], "__eq__": ["self", "other"],
         },
     },
 }

@@ -368,7 +368,10 @@ class Grounds(unittest.TestCase):
             with self.subTest(line=line, at=at):
                 self.assertIs(NET.is_ground({**fine, line: at}), False)
         for line in fine:
-            self.assertIs(NET.is_ground({other: fine[other] for other in fine if other != line}), False)
+            short = {other: fine[other] for other in fine if other != line}
+            self.assertIs(NET.is_ground(short), False)
+            self.assertIs(NET.is_ground({**short, "x": fine[line]}), False)
+            self.assertIs(NET.is_ground({**short, 0: fine[line]}), False)
 
     def test_is_ground_of_the_first_lines_at_nought(self):
         net = Net(PLAN, {})

@@ -316,6 +316,12 @@ class IsBounds(unittest.TestCase):
         self.assertIs(is_bounds(BAD, POINT, ((1, 2), (0, 1), (((1, "most"),), None, (), None))), True)
         self.assertIs(is_bounds(BAD, POINT, ((1, 2), (0, 1), (None, None, (), None))), False)
 
+    def test_first_above_last_though_the_ways_are_such(self):
+        ways = (((1, "most"),), ((1, "least"),), (), None)
+        self.assertIs(is_bounds(BAD, POINT, ((1, 2), (0, 1), (ways[0], None, (), None))), True)
+        self.assertIs(is_bounds(BAD, POINT, ((0, 0), (0, 1), ((), ways[1], (), None))), True)
+        self.assertIs(is_bounds(BAD, POINT, ((1, 0), (0, 1), ways)), False)
+
     def test_spoilt(self):
         columns, rows, ways = bounds(NET, POINT)
         told = (columns, rows, ways)
