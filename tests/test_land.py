@@ -347,6 +347,7 @@ class Twins(unittest.TestCase):
         self.assertEqual(other, land)
         other.do(WEST)
         other.do(("close", "lane"))
+        self.assertEqual(land.needed(WEST), ("king",))
         self.assertEqual((list(land.lots()), list(land.ways())), (["east"], ["lane"]))
         land.do(MID)
         self.assertEqual(list(other.lots()), ["east", "west"])
@@ -383,6 +384,9 @@ class Twins(unittest.TestCase):
             self.assertTrue(land != other)
             self.assertFalse(land == other)
         self.assertFalse(land_of(EAST, split, ("join", "east", "new")) == land_of(EAST, other_split, ("join", "east", "other")))
+        lane = ("way", "lane", ((2, 0),))
+        self.assertFalse(land_of(EAST, lane) == land_of(EAST, lane, ("close", "lane")))
+        self.assertFalse(land_of(EAST, lane) == land_of(EAST, ("way", "lane", ((2, 1),))))
         self.assertFalse(Land(PLAN, "king") == Land(PLAN, "ann"))
         self.assertFalse(Land(PLAN, "king") == Land(Plan(list("abcd"), list("gfe")), "king"))
         for thing in [*anything(), PLAN]:

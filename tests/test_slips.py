@@ -284,6 +284,14 @@ class Seals(unittest.TestCase):
                 self.assertIs(is_sealed(slip, "ann", thing, digest), False)
                 self.assertIs(is_sealed(thing, thing, thing, digest), False)
 
+    def test_by_what_is_no_key_nothing_is_sealed(self):
+        for thing in ["Key", "", "abcdefghijklmnopqrstu", "a b", None, 1]:
+            mark = digest(f"{thing} ann 1 5 grant east 0.0 0.1 ann")
+            with self.subTest(thing=thing):
+                self.assertIs(is_sealed((*BARE[:5], (("ann", mark),)), "ann", thing, digest), False)
+        mark = digest("key ann 1 5 grant east 0.0 0.1 ann")
+        self.assertIs(is_sealed((*BARE[:5], (("ann", mark),)), "ann", "key", digest), True)
+
     def test_a_digest_that_raises(self):
         slip = sealed(BARE, "ann", "key", digest)
         self.assertRaises(Broken, sealed, slip, "ann", "key", broken)
