@@ -14,9 +14,14 @@ def _are_keys(thing):
     return isinstance(thing, dict) and all([is_name(name) and is_key(key) for name, key in thing.items()])
 
 
+def is_day(thing):
+    """Whether thing, which may be anything, is a day that can be asked for."""
+    return is_within(thing, 0, _LAST_DAY)
+
+
 def _check_day(day):
     """Refuses what is no day that can be asked for."""
-    if not is_within(day, 0, _LAST_DAY):
+    if not is_day(day):
         raise NoDay(day)
 
 
@@ -28,13 +33,9 @@ def _by_pairs(slips):
     return {pair: found[pair] for pair in sorted(found)}
 
 
-def _days_of(groups):
-    """The day of each pair's one body, None where its slips have unlike ones."""
-    days = {}
-    for pair, slips in groups.items():
-        struck = any([are_two(slips[0], slip) for slip in slips])
-        days[pair] = None if struck else slips[0][3]
-    return days
+def _of_one_body(slips):
+    """The first of a pair's slips, None where they have unlike bodies."""
+    return None if any([are_two(slips[0], slip) for slip in slips]) else slips[0]
 
 
 def _early_word(pair, days, day):
@@ -97,6 +98,10 @@ class Book:
         """The keys by their names."""
         return dict(self._keys)
 
+    def bodies(self):
+        """For each (hand, number) of which slips were heard, rising, one of these: None where bodies are unlike."""
+        return {pair: _of_one_body(slips) for pair, slips in _by_pairs(self.slips()).items()}
+
     def words(self, day):
         """The word on that day of each (hand, number) of which slips were heard, these rising."""
         _check_day(day)
@@ -110,7 +115,7 @@ class Book:
     def _reckoned(self, day):
         """The words and the land of a day."""
         groups = _by_pairs(self.slips())
-        days = _days_of(groups)
+        days = {pair: None if slip is None else slip[3] for pair, slip in self.bodies().items()}
         words = {pair: _early_word(pair, days, day) for pair in groups}
         land = Land(self._plan, self._giver)
         for _, pair in sorted([(days[pair], pair) for pair in groups if words[pair] is None]):

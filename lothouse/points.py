@@ -30,7 +30,7 @@ def lies(plan, ground, point):
     return _band(plan.uprights(), ground, point[0]), _band(plan.levels(), ground, point[1])
 
 
-def _check_point(net, point):
+def check_point(net, point):
     """Refuses what is no point of the net's plan."""
     if not is_point(net.plan(), point):
         raise NoPoint("the net's plan has no such point")
@@ -57,7 +57,7 @@ def _is_from(least, limit):
 
 def may_lie(net, point):
     """The first and last column, and the first and last row, in which a point lies in some ground."""
-    _check_point(net, point)
+    check_point(net, point)
     return _span(net, net.plan().uprights(), point[0]), _span(net, net.plan().levels(), point[1])
 
 
@@ -79,7 +79,7 @@ def _is_band(lines, thing):
 
 def ground_at(net, point, column, row):
     """A ground in which a point lies in that column and row, None where there is none."""
-    _check_point(net, point)
+    check_point(net, point)
     uprights = net.plan().uprights()
     levels = net.plan().levels()
     if not _is_band(uprights, column) or not _is_band(levels, row):
@@ -133,7 +133,7 @@ def _leads(net, one, other, thing, limit):
 
 def is_bounds(net, point, thing):
     """Whether thing, which may be anything, tells as bounds does, if perhaps more widely, where a point lies."""
-    _check_point(net, point)
+    check_point(net, point)
     if not isinstance(thing, tuple) or len(thing) != 3:
         return False
     columns, rows, ways = thing

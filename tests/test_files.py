@@ -36,6 +36,16 @@ FUNCTIONS = {
         "sealed": ["slip", "name", "key", "digest"], "is_sealed": ["slip", "name", "key", "digest"],
         "are_two": ["one", "other"],
     },
+    "titles": {"title": ["book", "lot", "day"], "regained": ["book", "pairs"]},
+    "sheets": {
+        "block": ["land", "scale", "a", "b"], "sheet": ["land", "window", "*scale"],
+        "lined": ["land", "window", "*scale"], "beside": ["west", "east"], "above": ["north", "south"],
+        "sheet_text": ["sheet"],
+    },
+    "answers": {
+        "whose": ["net", "land", "point"], "way_over": ["net", "land", "point"],
+        "is_whose": ["net", "land", "point", "thing"],
+    },
 }
 CLASSES = {
     "plans": {
@@ -66,6 +76,14 @@ CLASSES = {
             "plan": ["self"], "giver": ["self"], "known_keys": ["self"], "words": ["self", "day"],
             "land": ["self", "day"], "mark": ["self", "day"], "marks": ["self"], "ripple": ["self", "slip", "day"],
             "twin": ["self"], "__eq__": ["self", "other"],
+        },
+    },
+    "mail": {
+        "Mail": {
+            "__init__": ["self", "plan", "giver", "keys", "digest", "*offices"], "bring": ["self", "office", "slip"],
+            "send": ["self", "one", "other"], "under_way": ["self", "one", "other"],
+            "come": ["self", "one", "other", "*at", "*kept"], "lose": ["self", "one", "other", "*at"],
+            "book": ["self", "office"], "last": ["self", "office", "other"], "twin": ["self"],
         },
     },
 }
