@@ -33,6 +33,14 @@ def read_whole(text):
     return int(text)
 
 
+def read_number(text):
+    """The whole number, also below 0, that a text writes without needless noughts; None of any other text."""
+    if not text.startswith("-"):
+        return read_whole(text)
+    number = read_whole(text[1:])
+    return None if number is None or number == 0 else -number
+
+
 def is_rising(things):
     """Whether each of things, which can be compared, is greater than the one ahead of it."""
     return all([one < other for one, other in zip(things, things[1:])])

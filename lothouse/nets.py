@@ -8,15 +8,15 @@ from lothouse.kinds import is_whole, is_within
 from lothouse.plans import Plan
 from lothouse.sights import is_sight
 
-_MOST_SIGHTS = 60
-_LAST_NUMBER = 200
+MOST_SIGHTS = 60
+LAST_NUMBER = 200
 
 
 def _is_numbered(sights):
     """Whether sights, which may be anything, is a dict of few enough numbers, whatever these lead to."""
-    if not isinstance(sights, dict) or len(sights) > _MOST_SIGHTS:
+    if not isinstance(sights, dict) or len(sights) > MOST_SIGHTS:
         return False
-    return all([is_within(number, 1, _LAST_NUMBER) for number in sights])
+    return all([is_within(number, 1, LAST_NUMBER) for number in sights])
 
 
 def _numbered(plan, sights):

@@ -14,7 +14,7 @@ def _is_family(thing):
     return isinstance(thing, (list, tuple)) and 2 <= len(thing) <= 8 and all([is_name(line) for line in thing])
 
 
-def _are_families(uprights, levels):
+def are_families(uprights, levels):
     """Whether both are lists of names, and no name stands twice in one or in both."""
     if not _is_family(uprights) or not _is_family(levels):
         return False
@@ -26,7 +26,7 @@ class Plan:
     """The uprights from west to east and the levels from south to north."""
 
     def __init__(self, uprights, levels):
-        if not _are_families(uprights, levels):
+        if not are_families(uprights, levels):
             raise NoPlan("a plan has 2 to 8 names each way, all unlike")
         self._uprights = tuple(uprights)
         self._levels = tuple(levels)

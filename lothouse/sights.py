@@ -4,7 +4,7 @@ from lothouse.kinds import is_number
 from lothouse.plans import Plan
 
 
-def _are_akin(plan, one, other):
+def are_akin(plan, one, other):
     """Whether one and other, which may be anything, are lines of one family of the plan."""
     return any([one in lines and other in lines for lines in (plan.uprights(), plan.levels())])
 
@@ -19,6 +19,6 @@ def is_sight(plan, thing):
     if not isinstance(plan, Plan) or not isinstance(thing, tuple) or len(thing) != 4:
         return False
     one, other, least, most = thing
-    if not _are_akin(plan, one, other) or one == other:
+    if not are_akin(plan, one, other) or one == other:
         return False
     return _is_reach(least) and _is_reach(most) and not (least is None and most is None)

@@ -24,7 +24,8 @@ def some_deed(chance, land):
     lots, people = [*land.lots(), *"lmnop"], ["ann", "bob", "carl"]
     lot, new = chance.choice(lots), chance.choice("lmnopqrstuv")
     one, two = chance.choice(people), chance.choice(people)
-    cells = tuple(sorted(chance.sample(PLAN.cells(), chance.randrange(1, 4))))
+    known = land.plan().cells()
+    cells = tuple(sorted(chance.sample(known, min(len(known), chance.randrange(1, 4)))))
     own = land.lots()[lot][0][:chance.randrange(1, 3)] if lot in land.lots() else cells
     alike = [other for other, told in land.lots().items() if lot in land.lots() and told[1:] == land.lots()[lot][1:]]
     word = chance.choice(["grant", "give", "split", "split", "join", "join", "burden", "free", "way", "close"])
@@ -36,10 +37,10 @@ def some_deed(chance, land):
     }[word]
 
 
-def history(seed, many):
-    """About so many slips, most of them sealed by all who are needed; some can't be done, some are unsealed."""
+def history(seed, many, plan=PLAN):
+    """So many slips, most of them sealed by all who are needed; some can't be done, some are unsealed."""
     chance = random.Random(seed)
-    land = Land(PLAN, "king")
+    land = Land(plan, "king")
     numbers = dict.fromkeys(KEYS, 0)
     slips, day = [], 1
     while len(slips) < many:

@@ -46,6 +46,11 @@ FUNCTIONS = {
         "whose": ["net", "land", "point"], "way_over": ["net", "land", "point"],
         "is_whose": ["net", "land", "point", "thing"],
     },
+    "judging": {"kept": ["house", "office"], "judged": ["record", "digest"]},
+    "texts": {
+        "sight_text": ["sight"], "read_sight": ["text"], "point_text": ["point"], "read_point": ["text"],
+        "plan_text": ["plan"], "read_plan": ["text"],
+    },
 }
 CLASSES = {
     "plans": {
@@ -86,6 +91,16 @@ CLASSES = {
             "book": ["self", "office"], "last": ["self", "office", "other"], "twin": ["self"],
         },
     },
+    "houses": {
+        "House": {
+            "__init__": ["self", "plan", "giver", "keys", "digest", "*offices"], "sight": ["self", "sight"],
+            "strike": ["self", "number"], "bring": ["self", "office", "slip"], "send": ["self", "one", "other"],
+            "come": ["self", "one", "other", "*at", "*kept"], "lose": ["self", "one", "other", "*at"], "net": ["self"],
+            "mail": ["self"], "ask": ["self", "point", "*office", "*day"], "far": ["self", "one", "other"],
+            "log": ["self"], "busy": ["self"],
+        },
+    },
+    "desk": {"Desk": {"__init__": ["self", "digest"], "say": ["self", "row"]}},
 }
 
 

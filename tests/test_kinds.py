@@ -2,7 +2,7 @@
 
 import unittest
 
-from lothouse.kinds import is_letters, is_number, is_rising, is_whole, is_within, read_whole
+from lothouse.kinds import is_letters, is_number, is_rising, is_whole, is_within, read_number, read_whole
 from tests.things import anything
 
 
@@ -37,6 +37,16 @@ class Kinds(unittest.TestCase):
             self.assertEqual(read_whole(str(k)), k)
         for text in ["", "00", "01", "007", "-1", "-0", "+1", " 1", "1 ", "1_0", "1.0", "a", "1a", "\n", "1\n", "~"]:
             self.assertIsNone(read_whole(text))
+        for sign in [chr(k) for k in range(32, 127) if chr(k) not in "0123456789"]:
+            self.assertIsNone(read_whole("1" + sign))
+            self.assertIsNone(read_whole(sign + "1"))
+            self.assertIsNone(read_number("1" + sign))
+
+    def test_numbers_below_nought_are_read_too(self):
+        for k in [*range(-120, 120), 10 ** 39, -10 ** 39]:
+            self.assertEqual(read_number(str(k)), k)
+        for text in ["", "-", "--1", "-0", "-00", "-01", "+1", "- 1", " -1", "-1 ", "1-", "-a", "-1.0", "00", "01", "+-1", "-+1"]:
+            self.assertIsNone(read_number(text))
 
 
 if __name__ == "__main__":
