@@ -21,22 +21,21 @@ class House:
         self._log = []
         self._begun = 0
 
-    def _begin(self):
-        """Notes that a deed begins: its number."""
+    def _logged(self, deed):
+        """What a deed tells. It is noted when it begins and when it ends, whatever error comes."""
         self._begun += 1
-        self._log.append(("begin", self._begun))
-        return self._begun
-
-    def sight(self, sight):
-        """Takes up a sight: its number."""
-        k = self._begin()
+        k = self._begun
+        self._log.append(("begin", k))
         try:
-            return self._taken_up(sight)
+            return deed()
         finally:
             self._log.append(("end", k))
 
+    def sight(self, sight):
+        """Takes up a sight: its number."""
+        return self._logged(lambda: self._taken_up(sight))
+
     def _taken_up(self, sight):
-        """Does what sight does."""
         if not is_sight(self._plan, sight):
             raise NoSight(0)
         if len(self._sights) == MOST_SIGHTS:
@@ -49,45 +48,28 @@ class House:
 
     def strike(self, number):
         """Strikes the sight of that number, which isn't given again."""
-        k = self._begin()
-        try:
-            if not is_whole(number) or number not in self._sights:
-                raise NoSight(number)
-            del self._sights[number]
-        finally:
-            self._log.append(("end", k))
+        self._logged(lambda: self._struck(number))
+
+    def _struck(self, number):
+        if not is_whole(number) or number not in self._sights:
+            raise NoSight(number)
+        del self._sights[number]
 
     def bring(self, office, slip):
         """Lets an office hear a slip: "new", or "known" where it heard it before."""
-        k = self._begin()
-        try:
-            return self._mail.bring(office, slip)
-        finally:
-            self._log.append(("end", k))
+        return self._logged(lambda: self._mail.bring(office, slip))
 
     def send(self, one, other):
         """Puts a page from one office to another under way."""
-        k = self._begin()
-        try:
-            self._mail.send(one, other)
-        finally:
-            self._log.append(("end", k))
+        self._logged(lambda: self._mail.send(one, other))
 
     def come(self, one, other, *, at=0, kept=False):
         """Lets a page come to the other office: how many of its slips were new there."""
-        k = self._begin()
-        try:
-            return self._mail.come(one, other, at=at, kept=kept)
-        finally:
-            self._log.append(("end", k))
+        return self._logged(lambda: self._mail.come(one, other, at=at, kept=kept))
 
     def lose(self, one, other, *, at=0):
         """Lets a page be lost."""
-        k = self._begin()
-        try:
-            self._mail.lose(one, other, at=at)
-        finally:
-            self._log.append(("end", k))
+        self._logged(lambda: self._mail.lose(one, other, at=at))
 
     def net(self):
         """The net of all sights that stand."""
