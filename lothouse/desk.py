@@ -153,19 +153,19 @@ class Desk:
         least, most, _, _ = self._house.far(one, other)
         return f"{_sign(least)} {_sign(most)}"
 
-    def _book(self, office):
+    def _book_of(self, office):
         """The book of an office."""
         return self._house.mail().book(office)
 
     def _worded(self, office, day):
-        told = self._book(office).words(day)
+        told = self._book_of(office).words(day)
         return _listed([f"{hand}.{number} {word}" for (hand, number), word in told.items()])
 
     def _entitled(self, office, day, lot):
-        return _listed([f"{hand}.{number}" for hand, number in title(self._book(office), lot, day)])
+        return _listed([f"{hand}.{number}" for hand, number in title(self._book_of(office), lot, day)])
 
     def _mapped(self, office, day):
-        land = self._book(office).land(day)
+        land = self._book_of(office).land(day)
         plan = land.plan()
         window = ((0, len(plan.uprights()) - 2), (0, len(plan.levels()) - 2))
         return sheet_text(sheet(land, window))[:-1].replace("\n", " / ")
